@@ -649,16 +649,53 @@ func TestDeepTerms(t *testing.T) {
 	}
 }
 
-func TestAllOfADeepTermEnds(t *testing.T) {
+func TestAllOfDeepTermsIsLeft(t *testing.T) {
 	defer debug.SetMaxStack(debug.SetMaxStack(4 << 20))
-	x, n := deepTerms()["applications"], 0
-	for i, got := range term.All(x) {
-		if i != n || got.Kind != api.App && got.Kind != api.Int {
-			t.Fatalf("the number %d: %d, of kind %d", n, i, got.Kind)
+	for what, x := range deepTerms() {
+		n := 0
+		for i, got := range term.All(x) {
+			if want, _ := term.Nth(x, i); i != n || !term.Equal(got, want) {
+				t.Fatalf("%s: the number %d is told as %d, of kind %d", what, n, i, got.Kind)
+			}
+			n++
+			if n == 3 {
+				break
+			}
 		}
-		n++
 	}
-	if n != 2*deep+1 {
-		t.Errorf("All tells %d", n)
+}
+
+// All terms of the deepest one here have, together, nearly the 2^31 - 1 bytes that are promised of.
+func TestAllOfADeepTermGivesOnesOwn(t *testing.T) {
+	for what, c := range map[string]struct {
+		levels int
+		around func(t api.Term) api.Term
+		inner  func(t api.Term) *api.Term // the part that goes on
+	}{
+		"functions":    {6190, func(t api.Term) api.Term { return named(api.Lam, "x", t) }, func(t api.Term) *api.Term { return &t.Parts[0] }},
+		"applications": {1000, func(t api.Term) api.Term { return node(api.App, t, variable("x")) }, func(t api.Term) *api.Term { return &t.Parts[0] }},
+		"to the right": {1000, func(t api.Term) api.Term { return named(api.Let, "x", num(1), t) }, func(t api.Term) *api.Term { return &t.Parts[1] }},
+	} {
+		x := variable("x")
+		for range c.levels {
+			x = c.around(x)
+		}
+		n, size := 0, term.Size(x)
+		for i, got := range term.All(x) {
+			if i != n || got.Kind == 77 {
+				t.Fatalf("%s: the number %d is told as %d, of kind %d", what, n, i, got.Kind)
+			}
+			n++
+			if len(got.Parts) > 0 {
+				inner := c.inner(got)
+				for j := range inner.Parts {
+					inner.Parts[j].Kind = 77
+				}
+				inner.Kind = 77
+			}
+		}
+		if n != size {
+			t.Errorf("%s: All tells %d, want %d", what, n, size)
+		}
 	}
 }
